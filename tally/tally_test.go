@@ -261,7 +261,7 @@ func TestBounds(t *testing.T) {
 
 const (
 	workers = 8
-	times   = 5000
+	times   = 100000
 )
 
 // atOnce lets workers run side by side, and waits for all of them; none begins ahead of the others, so that they meet.
@@ -325,28 +325,24 @@ func TestManyTake(t *testing.T) {
 	}
 }
 
-// P1.2: of many that Raise to the same numbers each number succeeds once at most, and the greatest stays.
+// P1.2: of many that Raise to the same number one succeeds, and it never falls.
 func TestManyRaise(t *testing.T) {
-	x := New(times)
-	raised := make([]atomic.Int32, times+2)
+	x := New(math.MaxInt64)
+	var raised atomic.Int64
 	atOnce(func(int) {
-		for n := int64(1); n <= times+1; n++ {
-			if x.Raise(n) {
-				raised[n].Add(1)
+		for range times {
+			next := x.Now() + 1
+			if x.Raise(next) {
+				raised.Add(1)
 			}
-			if now := x.Now(); now < min(n, times) {
-				t.Errorf("behind Raise(%d) it is %d", n, now)
+			if now := x.Now(); now < next {
+				t.Errorf("behind Raise(%d) it is %d", next, now)
 				return
 			}
 		}
 	})
-	for n := range raised {
-		if raised[n].Load() > 1 {
-			t.Errorf("Raise(%d) succeeded %d times", n, raised[n].Load())
-		}
-	}
-	if x.Now() != times || raised[times].Load() != 1 || raised[times+1].Load() != 0 {
-		t.Errorf("now %d", x.Now())
+	if x.Now() != raised.Load() {
+		t.Errorf("raised %d times by one, now %d", raised.Load(), x.Now())
 	}
 }
 
@@ -355,7 +351,7 @@ func TestManyReset(t *testing.T) {
 	x := New(math.MaxInt64)
 	var told atomic.Int64
 	atOnce(func(worker int) {
-		for range 10 * times {
+		for range times {
 			if worker%2 == 0 {
 				x.Add(3)
 			} else {
@@ -363,7 +359,7 @@ func TestManyReset(t *testing.T) {
 			}
 		}
 	})
-	const want = workers / 2 * 10 * times * 3
+	const want = workers / 2 * times * 3
 	if sum := told.Load() + x.Now(); sum != want {
 		t.Errorf("told and left %d of %d", sum, want)
 	}
